@@ -1,0 +1,1 @@
+"""Orders of few things, and the sets that stand for them."""
