@@ -52,6 +52,22 @@ def check_rings(many, rows):
                 raise Ring("two unlike things are below one another")
 
 
+def has_between(rows, a, b):
+    for c in range(len(rows)):
+        if c != a and c != b and rows[a][c] and rows[c][b]:
+            return True
+    return False
+
+
+def right_pairs(rows):
+    pairs = []
+    for a in range(len(rows)):
+        for b in range(len(rows)):
+            if a != b and rows[a][b] and not has_between(rows, a, b):
+                pairs.append((a, b))
+    return pairs
+
+
 class Order:
     def __init__(self, many, pairs):
         check_many(many)
@@ -75,19 +91,8 @@ class Order:
         self.check_thing(b)
         return self.table[a][b]
 
-    def has_between(self, a, b):
-        for c in range(self.many()):
-            if c != a and c != b and self.table[a][c] and self.table[c][b]:
-                return True
-        return False
-
     def right_below(self):
-        told = []
-        for a in range(self.many()):
-            for b in range(self.many()):
-                if a != b and self.table[a][b] and not self.has_between(a, b):
-                    told.append((a, b))
-        return told
+        return right_pairs(self.table)
 
 
 # All pairs below one another may be more than an order takes; those right below are

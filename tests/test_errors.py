@@ -1,8 +1,7 @@
 import unittest
 
+from common import KINDS
 from meetjoin import errors
-
-KINDS = ["BadThings", "BadPair", "Ring", "NoThing", "NotNet", "NotSpread", "TooMany", "NoText"]
 
 
 class ErrorsTest(unittest.TestCase):

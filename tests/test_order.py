@@ -1,81 +1,9 @@
-import itertools
-import random
 import unittest
 
+from common import CHAIN, CROWD, CUBE, HUGE, OrderCase, belows, covers, few_things, has_ring, many_things, reached
 from meetjoin import errors
 from meetjoin.errors import BadPair, BadThings, NoThing, Ring
 from meetjoin.order import Order, turned
-
-KINDS = ["BadThings", "BadPair", "Ring", "NoThing", "NotNet", "NotSpread", "TooMany", "NoText"]
-# Too long for Python to write it out by figures.
-HUGE = 10 ** 5000
-CHAIN = [(k, k + 1) for k in range(15)]
-CUBE = [(a, a | bit) for a in range(16) for bit in (1, 2, 4, 8) if not a & bit]
-# Eight things below eight others, in 60 pairs that are all right below.
-CROWD = [(a, b) for a in range(8) for b in range(8, 16)][:60]
-
-
-def reached(many, pairs):
-    """All (a, b) with a way from a to b, found by walking from each thing."""
-    found = set()
-    for start in range(many):
-        waiting = [start]
-        while waiting:
-            a = waiting.pop()
-            if (start, a) not in found:
-                found.add((start, a))
-                waiting.extend(y for x, y in pairs if x == a)
-    return found
-
-
-def has_ring(found):
-    return any(a != b and (b, a) in found for a, b in found)
-
-
-def covers(found):
-    """All (a, b) with a right below b, straight from the document's words."""
-    strict = {(a, b) for a, b in found if a != b}
-    things = {a for a, b in found}
-    return sorted((a, b) for a, b in strict
-                  if not any((a, c) in strict and (c, b) in strict for c in things))
-
-
-def belows(order):
-    things = range(order.many())
-    return {(a, b) for a in things for b in things if order.below(a, b)}
-
-
-def few_things():
-    """Each way to tell an order of 1 to 3 things by unlike pairs, and of 4 without self-pairs."""
-    for many in (1, 2, 3, 4):
-        able = [(a, b) for a in range(many) for b in range(many) if many < 4 or a != b]
-        for marks in itertools.product((False, True), repeat=len(able)):
-            yield many, [pair for pair, mark in zip(able, marks) if mark]
-
-
-def many_things():
-    """Orders of up to 16 things and 60 pairs, the same ones at each run."""
-    source = random.Random(20)
-    for many in range(1, 17):
-        for length in (0, 1, many, 2 * many, 60):
-            names = list(range(many))
-            source.shuffle(names)
-            pairs = []
-            for place in range(length):
-                low, high = sorted((source.randrange(many), source.randrange(many)))
-                pairs.append((names[low], names[high]))
-            yield many, pairs
-
-
-class OrderCase(unittest.TestCase):
-    def refuses(self, kind, call, *args):
-        """The call is refused with this kind, caught under its bases, and none of the other seven."""
-        with self.assertRaises(errors.OrderError) as caught:
-            call(*args)
-        self.assertIsInstance(caught.exception, ValueError)
-        for name in KINDS:
-            other = getattr(errors, name)
-            self.assertEqual(isinstance(caught.exception, other), other is kind, name)
 
 
 class MakingTest(OrderCase):
